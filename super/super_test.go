@@ -309,15 +309,15 @@ func TestWrite(t *testing.T) {
 	d := made(t, api.Held{Sector: 2, Data: []byte("a")}, api.Held{Sector: 3, Data: []byte("b")})
 	d.Write(3, []byte("c"))
 	two, three := api.Held{Sector: 2, Data: []byte("a")}, api.Held{Sector: 3, Data: []byte("c")}
-	four, five, two6 := block(4, 2), block(5, 3), block(6, 2, 3)
+	four, five, six := block(4, 2), block(5, 3), block(6, 2, 3)
 	writes(t, d, four, api.OK)
 	// All that waited lasts with it.
 	holds(t, d, api.Held{Sector: 0, Data: framed(t, four)}, two, three)
 	waits(t, d)
 	writes(t, d, five, api.OK)
 	holds(t, d, api.Held{Sector: 0, Data: framed(t, four)}, api.Held{Sector: 1, Data: framed(t, five)}, two, three)
-	writes(t, d, two6, api.OK)
-	holds(t, d, api.Held{Sector: 0, Data: framed(t, two6)}, api.Held{Sector: 1, Data: framed(t, five)}, two, three)
+	writes(t, d, six, api.OK)
+	holds(t, d, api.Held{Sector: 0, Data: framed(t, six)}, api.Held{Sector: 1, Data: framed(t, five)}, two, three)
 	waits(t, d)
 	small, _ := disk.New(2)
 	writes(t, small, four, api.OK)
